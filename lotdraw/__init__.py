@@ -1,0 +1,1 @@
+"""Lotdraw: lots looked at piece by piece."""
