@@ -37,6 +37,27 @@ methodcaller os quit setattr super type vars sys format format_map
 """.split())
 
 
+WALKED = set("zip enumerate reversed range items keys values".split())
+WALKERS = set("list tuple dict sorted sum any all enumerate zip min max join".split())
+KEYWORDS = {
+    "sorted": {"key", "reverse"}, "min": {"key", "default"}, "max": {"key", "default"}, "sum": {"start"},
+    "enumerate": {"start"}, "zip": {"strict"},
+}
+
+
+def called(node):
+    """The name of what is called, or None where nothing is."""
+    if not isinstance(node, ast.Call):
+        return None
+    return node.func.attr if isinstance(node.func, ast.Attribute) else getattr(node.func, "id", None)
+
+
+def with_parents(tree):
+    for parent in ast.walk(tree):
+        for node in ast.iter_child_nodes(parent):
+            yield node, parent
+
+
 def names_bound(tree):
     for node in ast.walk(tree):
         if isinstance(node, ast.Name) and isinstance(node.ctx, ast.Store):
@@ -176,6 +197,42 @@ class Language(unittest.TestCase):
                     self.assertNotIn(node.attr, UNUSED)
                 if isinstance(node, ast.Call) and isinstance(node.func, ast.Attribute):
                     self.assertIn(node.func.attr, methods)
+
+    def test_what_is_walked_at_once_is_not_kept(self):
+        for path, text, tree in self.each():
+            for node, parent in with_parents(tree):
+                if called(node) in WALKED:
+                    if isinstance(parent, (ast.For, ast.comprehension)):
+                        self.assertIs(parent.iter, node)
+                    else:
+                        self.assertIn(called(parent), WALKERS, node.lineno)
+                        self.assertIn(node, parent.args)
+
+    def test_sets_are_not_kept_and_not_walked(self):
+        for path, text, tree in self.each():
+            for node, parent in with_parents(tree):
+                if isinstance(node, ast.Set) or called(node) in ("set", "frozenset"):
+                    if not isinstance(parent, ast.Compare):
+                        self.assertIn(called(parent), ("sorted", "len"), node.lineno)
+                        self.assertFalse(parent.keywords)
+
+    def test_keywords_at_names_of_pythons_own(self):
+        for path, text, tree in self.each():
+            for node in ast.walk(tree):
+                if called(node) in OWN_NAMES | METHODS:
+                    there = {keyword.arg for keyword in node.keywords}
+                    self.assertLessEqual(there, KEYWORDS.get(called(node), set()), node.lineno)
+
+    def test_no_two_files_draw_from_one_another(self):
+        drawn = {}
+        for path, text, tree in self.each():
+            drawn[path.stem] = {
+                node.module.partition(".")[2] for node in tree.body if isinstance(node, ast.ImportFrom)}
+        while drawn:
+            free = [name for name, others in drawn.items() if not others & set(drawn)]
+            self.assertTrue(free, drawn)
+            for name in free:
+                drawn.pop(name)
 
 
 if __name__ == "__main__":
