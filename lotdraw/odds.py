@@ -14,13 +14,11 @@ def odds(plan, end):
 
 # Over one bottom the numbers are added up whole, and each sum is brought to lowest terms once.
 def mean_of(plan, numbers):
-    there = ends(plan)
-    if len(numbers) != len(there):
-        raise NoTelling("there are not as many numbers as ends")
+    check_telling(plan, numbers)
     ways = ways_from(plan, (0, 0))
     bottom = common_bottom(numbers)
     totals = [0] * (len(plan) + 1)
-    for end, top in zip(there, tops_over(numbers, bottom)):
+    for end, top in zip(ends(plan), tops_over(numbers, bottom)):
         for place, fraction in enumerate(of_count(end[0], end[1])):
             totals[place] += top * ways[end] * fraction[0]
     return trimmed([frac(total, bottom) for total in totals])
@@ -32,3 +30,8 @@ def mean_draws(plan):
 
 def mean_bad(plan):
     return mean_of(plan, [(bad, 1) for bad, good in ends(plan)])
+
+
+def check_telling(plan, numbers):
+    if len(numbers) != len(ends(plan)):
+        raise NoTelling("there are not as many numbers as ends")

@@ -1,7 +1,9 @@
 """Plans to test with, and what is told of them worked out in the plainest way."""
 
 import itertools
+import math
 import random
+from fractions import Fraction
 
 ONE_PLACE = ((0,),)
 ALL_OF_24 = tuple(tuple(range(draws + 1)) for draws in range(24))
@@ -102,3 +104,26 @@ def plain_rows(plan):
                 longer.append((row + "g", (bad, good + 1)))
         last = longer
     return told
+
+
+def powers_of(bad, good):
+    """The numbers of the powers of x in x to the power of bad times (1 - x) to the power of good."""
+    return [0] * bad + [(-1) ** place * math.comb(good, place) for place in range(good + 1)]
+
+
+def as_told(numbers):
+    kept = [Fraction(number) for number in numbers]
+    while kept and kept[-1] == 0:
+        kept.pop()
+    return [(number.numerator, number.denominator) for number in kept]
+
+
+def plain_ways(plan):
+    on = plain_on(plan)
+    ways = {(0, 0): 1}
+    for draws in range(len(plan)):
+        for bad in range(draws + 1):
+            if (bad, draws - bad) in on:
+                for led in ((bad + 1, draws - bad), (bad, draws - bad + 1)):
+                    ways[led] = ways.get(led, 0) + ways[bad, draws - bad]
+    return ways

@@ -1,5 +1,4 @@
 import copy
-import math
 import random
 import unittest
 from fractions import Fraction
@@ -10,35 +9,12 @@ from lotdraw.odds import mean_bad, mean_draws, mean_of, odds
 from lotdraw.polys import product, scaled, sum_of, worth
 from some_plans import (
     ALL_OF_24, BAD_OF_24, GAPS_OF_24, GOOD_OF_24, ONE_PLACE, PLANS, SMALL, WITH_GAPS,
-    plain_come_to, plain_ends, plain_on, plain_rows,
+    as_told, plain_come_to, plain_ends, plain_on, plain_rows, plain_ways, powers_of,
 )
 
 LONG = 10 ** 300 - 1
 X = [(0, 1), (1, 1)]
 ONE = [(1, 1)]
-
-
-def powers_of(bad, good):
-    """The numbers of the powers of x in x to the power of bad times (1 - x) to the power of good."""
-    return [0] * bad + [(-1) ** place * math.comb(good, place) for place in range(good + 1)]
-
-
-def as_told(numbers):
-    kept = [Fraction(number) for number in numbers]
-    while kept and kept[-1] == 0:
-        kept.pop()
-    return [(number.numerator, number.denominator) for number in kept]
-
-
-def plain_ways(plan):
-    on = plain_on(plan)
-    ways = {(0, 0): 1}
-    for draws in range(len(plan)):
-        for bad in range(draws + 1):
-            if (bad, draws - bad) in on:
-                for led in ((bad + 1, draws - bad), (bad, draws - bad + 1)):
-                    ways[led] = ways.get(led, 0) + ways[bad, draws - bad]
-    return ways
 
 
 def plain_mean(plan, numbers):
