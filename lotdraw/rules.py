@@ -4,16 +4,15 @@ from lotdraw.errors import NoShares
 from lotdraw.fracs import minus, over, plus, power, times, under
 from lotdraw.odds import mean_of
 from lotdraw.plans import check_ends, ends
-from lotdraw.polys import common_bottom, tops_over
+from lotdraw.polys import NOUGHT, common_bottom, tops_over
 from lotdraw.ways import ways_from
 
-NONE = (0, 1)
 WHOLE = (1, 1)
 
 
 def refusing(plan, rule):
     check_ends(plan, rule)
-    return mean_of(plan, [WHOLE if end in rule else NONE for end in ends(plan)])
+    return mean_of(plan, [WHOLE if end in rule else NOUGHT for end in ends(plan)])
 
 
 def ratio(count, low, high):
@@ -33,12 +32,12 @@ def rule_by_ratio(plan, low, high, most):
 
 
 def check_shares(low, high):
-    if not (under(NONE, low) and under(low, high) and under(high, WHOLE)):
+    if not (under(NOUGHT, low) and under(low, high) and under(high, WHOLE)):
         raise NoShares("the shares are not above 0, one below the other, and below 1")
 
 
 def check_most(most):
-    if under(most, NONE) or under(WHOLE, most):
+    if under(most, NOUGHT) or under(WHOLE, most):
         raise NoShares("the most is not from 0 to 1")
 
 
@@ -59,8 +58,8 @@ def by_falling_ratio(choice):
 
 def taken(choice, most):
     rule = []
-    wrong = NONE
-    caught = NONE
+    wrong = NOUGHT
+    caught = NOUGHT
     for end, end_ratio, end_wrong, end_caught in choice:
         more = plus(wrong, end_wrong)
         if under(most, more):
@@ -68,7 +67,7 @@ def taken(choice, most):
         rule.append(end)
         wrong = more
         caught = plus(caught, end_caught)
-    return (in_order(rule), NONE, wrong, caught)
+    return (in_order(rule), NOUGHT, wrong, caught)
 
 
 def in_order(rule):

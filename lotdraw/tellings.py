@@ -3,6 +3,7 @@
 from lotdraw.errors import NoTelling
 from lotdraw.fracs import frac, minus, over, plus, power
 from lotdraw.plans import check_ends, ends
+from lotdraw.polys import NOUGHT
 from lotdraw.rows import end_of, rows_of
 from lotdraw.ways import first_bad, ways_from, ways_to
 
@@ -46,7 +47,7 @@ def by_end(plan, telling):
 
 
 def sum_of_all(fractions):
-    total = (0, 1)
+    total = NOUGHT
     for fraction in fractions:
         total = plus(total, fraction)
     return total

@@ -127,3 +127,15 @@ def plain_ways(plan):
                 for led in ((bad + 1, draws - bad), (bad, draws - bad + 1)):
                     ways[led] = ways.get(led, 0) + ways[bad, draws - bad]
     return ways
+
+
+def drawn_one_by_one(plan, size, bad):
+    """How often one comes to each count, each draw being one of the pieces left."""
+    on = plain_on(plan)
+    often = {(0, 0): Fraction(1)}
+    for count in sorted(on, key=sum):
+        found, fine = count
+        left = size - found - fine
+        for led, pieces in (((found + 1, fine), bad - found), ((found, fine + 1), size - bad - fine)):
+            often[led] = often.get(led, 0) + often[count] * max(pieces, 0) / left
+    return often

@@ -159,6 +159,33 @@ class Language(unittest.TestCase):
                     for part in node.body:
                         self.assertIsInstance(part, (ast.FunctionDef, ast.Pass))
 
+    def test_methods_and_values_of_objects(self):
+        pythons = {name for kind in (str, int, list, tuple, dict, set, bytes) for name in dir(kind)}
+        methods = own_methods()
+        values = set()
+        for path, text, tree in self.each():
+            for node in ast.walk(tree):
+                if isinstance(node, ast.Attribute) and isinstance(node.ctx, ast.Store):
+                    self.assertIsInstance(node.value, ast.Name)
+                    values.add(node.attr)
+        self.assertFalse(methods & values)
+        self.assertLessEqual((methods | values) & pythons, {"__init__"})
+
+    def test_lists_and_dicts_of_a_files_top_are_only_read(self):
+        for path, text, tree in self.each():
+            kept = {
+                node.targets[0].id for node in tree.body
+                if isinstance(node, ast.Assign) and isinstance(node.value, (ast.List, ast.Dict))
+            }
+            for node, parent in with_parents(tree):
+                if isinstance(node, (ast.List, ast.Dict)) and parent in tree.body:
+                    self.assertFalse([part for part in ast.walk(node)
+                                      if part is not node and isinstance(part, (ast.List, ast.Dict, ast.Set))])
+                if isinstance(node, ast.Name) and node.id in kept and isinstance(node.ctx, ast.Load):
+                    self.assertIsInstance(parent, (ast.Subscript, ast.Compare), node.lineno)
+                    if isinstance(parent, ast.Subscript):
+                        self.assertIsInstance(parent.ctx, ast.Load)
+
     def test_imports_come_from_the_file_that_defines_the_name(self):
         for path, text, tree in self.each():
             for node in ast.walk(tree):

@@ -12,23 +12,11 @@ from lotdraw.odds import odds
 from lotdraw.polys import of_count, scaled, sum_of
 from some_plans import (
     ALL_OF_24, BAD_OF_24, GAPS_OF_24, GOOD_OF_24, ONE_PLACE, PLANS, SMALL, WITH_GAPS,
-    as_told, plain_ends, plain_on, powers_of,
+    as_told, drawn_one_by_one, plain_ends, plain_on, powers_of,
 )
 
 LONG = 10 ** 300 - 1
 WIDE = [ONE_PLACE, WITH_GAPS, GOOD_OF_24, BAD_OF_24, ALL_OF_24, GAPS_OF_24]
-
-
-def drawn_one_by_one(plan, size, bad):
-    """How often one comes to each count, each draw being one of the pieces left."""
-    on = plain_on(plan)
-    often = {(0, 0): Fraction(1)}
-    for count in sorted(on, key=sum):
-        found, fine = count
-        left = size - found - fine
-        for led, pieces in (((found + 1, fine), bad - found), ((found, fine + 1), size - bad - fine)):
-            often[led] = often.get(led, 0) + often[count] * max(pieces, 0) / left
-    return often
 
 
 def by_all_orders(plan, size, bad):
